@@ -73,8 +73,12 @@ def waits_of(table):
     return steps
 
 
+def moves_of(table):
+    return [Ride(row) for row in table.rides] + walks_of(table) + waits_of(table)
+
+
 def steps_of(table):
-    return set_outs_of(table) + [Ride(row) for row in table.rides] + walks_of(table) + waits_of(table)
+    return set_outs_of(table) + moves_of(table)
 
 
 def set_out_of(table, name, turn):

@@ -30,11 +30,16 @@ def steps_over(table, plan):
     return [("over", step.key()) for step in steps_of(table) if step.key() in over]
 
 
-def groups_over(table, plan):
+def out_by_group(plan):
     out = {}
     for key, many in plan.items():
         if key[0] == "out":
             out[key[1]] = out.get(key[1], 0) + many
+    return out
+
+
+def groups_over(table, plan):
+    out = out_by_group(plan)
     return [("group", row[0]) for row in table.groups if out.get(row[0], 0) > row[3]]
 
 

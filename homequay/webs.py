@@ -11,6 +11,21 @@ def is_spot_of(table, thing):
     return table.is_place(thing[0]) and is_within(thing[1], 0, table.turns)
 
 
+def is_home_spot(table, thing):
+    return is_spot_of(table, thing) and table.is_home(thing[0])
+
+
+def spots_of(table):
+    spots = []
+    for turn in range(table.turns + 1):
+        spots.extend([(row[0], turn) for row in table.places])
+    return spots
+
+
+def home_spots_by(table, turn):
+    return [spot for spot in spots_of(table) if spot[1] <= turn and table.is_home(spot[0])]
+
+
 class Web:
     def __init__(self, table):
         self.table = table

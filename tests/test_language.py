@@ -217,9 +217,10 @@ class ExpressionsTest(unittest.TestCase):
         for name in values():
             self.assertTrue(re.fullmatch(r"[A-Za-z][A-Za-z0-9_]*", name), name)
             self.assertFalse(name in NAMES_OF_VALUES | {"args"} and name not in FREE_VALUES, name)
+        known = methods() | values() | set(METHODS_OF_PYTHON + DOUBLE_UNDERSCORES)
         for path, node in nodes(ast.Attribute):
             self.assertNotIn(node.attr, BARRED_NAMES, path)
-            self.assertIn(node.attr, METHODS_OF_PYTHON + DOUBLE_UNDERSCORES + sorted(methods() | values()), path)
+            self.assertIn(node.attr, known, path)
 
     def test_what_is_walked_at_once(self):
         kept = []
