@@ -6,11 +6,14 @@ from homequay.walking import home_counts, is_plan
 from homequay.webs import home_spots_by
 
 
+# Whether one person more, whoever it is, can be sent home by the turn.
+def one_more_by(table, sending, turn):
+    return sending.more([row[0] for row in table.groups], home_spots_by(table, turn))
+
+
 # Sends home by the turn as many more as can be, and tells the line at which that ended.
 def line_by(table, sending, turn):
-    groups = [row[0] for row in table.groups]
-    goals = home_spots_by(table, turn)
-    while sending.more(groups, goals):
+    while one_more_by(table, sending, turn):
         pass
     return sending.near()
 

@@ -1,9 +1,9 @@
 """Journeys: a plan drawn apart into the steps of each person, and joined again."""
 
 from homequay.errors import NoJourney
+from homequay.persons import is_person
 from homequay.steps import step_of, step_or_none
 from homequay.walking import is_plan, refuse_no_plan
-from homequay.words import is_within
 
 
 # The steps of a plan, each as often as it is taken.
@@ -52,10 +52,9 @@ def leads_home(table, group, keys):
 def is_journey(table, thing):
     if not isinstance(thing, tuple) or len(thing) != 3:
         return False
-    group = thing[0]
-    if not table.is_group(group) or not is_within(thing[1], 0, table.group_row(group)[3] - 1):
+    if not is_person(table, thing[:2]):
         return False
-    return isinstance(thing[2], list) and len(thing[2]) > 0 and leads_home(table, group, thing[2])
+    return isinstance(thing[2], list) and len(thing[2]) > 0 and leads_home(table, thing[0], thing[2])
 
 
 def joined(table, journeys):

@@ -251,3 +251,32 @@ def renamed(table, seed):
     for part in rows:
         chance.shuffle(part)
     return Table(table.turns, *rows)
+
+
+def together_by_hand(table, turn):
+    """Every tuple of how many of each group, in the table's order, can be home by the turn together."""
+    rooms = {key: room for key, tail, head, room, price in moves_by_hand(table)}
+    found = {((), ())}
+    for name, place, first, many in table.groups:
+        paths = [steps for start in range(first, turn + 1) for steps, come in paths_home(table, (place, start))
+                 if come <= turn]
+        last = {(taken, outs + (0,)) for taken, outs in found}
+        found = set(last)
+        for person in range(many):
+            last = {further for state in last for further in one_further(state, paths, rooms)}
+            found |= last
+    return {outs for taken, outs in found}
+
+
+def one_further(state, paths, rooms):
+    taken, outs = state
+    for steps in paths:
+        used = dict(taken)
+        for key, price in steps:
+            used[key] = used.get(key, 0) + 1
+        if all(used[key] <= rooms[key] for key, price in steps):
+            yield (tuple(sorted(used.items())), outs[:-1] + (outs[-1] + 1,))
+
+
+def persons_by_hand(table):
+    return [(row[0], number) for row in table.groups for number in range(row[3])]
