@@ -1,4 +1,4 @@
-"""The turn by which all can be home, or how many never can; and who can be home where some homes alone are open."""
+"""The turn by which all can be home, or how many never can; and how many can where only some homes are homes."""
 
 from homequay.best import best, best_by
 from homequay.lines import is_line, is_turn, refuse_no_turn

@@ -211,12 +211,10 @@ class WorthTest(unittest.TestCase):
     def test_names_and_orders_change_nothing(self):
         for seed, table in enumerate(tables()):
             for turn in range(min(table.turns, 5) + 1):
-                # The names are other ones, so rides are known again by all else; those that are alike come in any order.
-                self.assertEqual(self.by_row(renamed(table, seed), turn), self.by_row(table, turn))
-
-    def by_row(self, table, turn):
-        return sorted([(row[2], row[4], row[5], more, less) for row, (ride, more, less)
-                       in zip(table.rides, worth(table, turn))])
+                # What was ride number at is called x and that number there.
+                other = {ride: (more, less) for ride, more, less in worth(renamed(table, seed), turn)}
+                told = {f"x{at}": (more, less) for at, (ride, more, less) in enumerate(worth(table, turn))}
+                self.assertEqual(other, told)
 
     def test_a_table_at_its_bounds(self):
         told = worth(full_table(), 33)

@@ -280,3 +280,29 @@ def one_further(state, paths, rooms):
 
 def persons_by_hand(table):
     return [(row[0], number) for row in table.groups for number in range(row[3])]
+
+
+def begin_by_hand(table, key):
+    """The turn at which a step begins."""
+    if key[0] == "ride":
+        return [row[2] for row in table.rides if row[0] == key[1]][0]
+    return key[2]
+
+
+def rest_by_hand(table, journeys, now):
+    """How many are home and the rows of those who stand somewhere, person by person along the journeys [101]."""
+    homes = table.homes()
+    heads = {key: head for key, tail, head, room, price in outs_by_hand(table) + moves_by_hand(table)}
+    keys_of = {(group, number): keys for group, number, keys in journeys}
+    home = 0
+    standing = {}
+    for name, place, first, many in table.groups:
+        for number in range(many):
+            walked = [key for key in keys_of.get((name, number), []) if begin_by_hand(table, key) < now]
+            spot = heads[walked[-1]] if walked else (place, max(first, now))
+            if walked and spot[0] in homes and spot[1] <= now:
+                home += 1
+            else:
+                standing[spot] = standing.get(spot, 0) + 1
+    order = [(name, turn) for turn in range(table.turns + 1) for name, room in table.places]
+    return home, [(f"{spot[0]}.{spot[1]}",) + spot + (standing[spot],) for spot in order if spot in standing]
