@@ -23,6 +23,7 @@ BARRED_WORDS = """type typing typing_extensions enum Enum IntEnum StrEnum Flag I
     namedtuple NamedTuple TypedDict TYPE_CHECKING abstractmethod""".split()
 BARRED_WITHIN_WORDS = "dataclass overload contextmanager".split()
 BARRED_FILES = "test tests testing site conftest sitecustomize usercustomize".split() + BARRED_WORDS + dir(builtins)
+CHANGES = "append clear extend insert pop remove reverse setdefault update".split()
 FREE_METHODS = METHODS_OF_PYTHON + ["add", "discard"]
 FREE_VALUES = "count index title find get join lower upper split strip copy add".split()
 NAMES_OF_VALUES = {name for kind in (str, int, list, tuple, dict, set, bytes) for name in dir(kind)}
@@ -65,6 +66,15 @@ def methods():
 
 def values():
     return {node.attr for path, node in nodes(ast.Attribute) if isinstance(node.ctx, ast.Store)}
+
+
+def walked_by(thing):
+    """What a loop walks, itself or through enumerate, zip, reversed and items."""
+    if isinstance(thing, ast.Call) and isinstance(thing.func, ast.Name) and thing.func.id in ("enumerate", "zip", "reversed"):
+        return [part for given in thing.args for part in walked_by(given)]
+    if isinstance(thing, ast.Call) and isinstance(thing.func, ast.Attribute) and thing.func.attr in ("items", "keys", "values"):
+        return [thing.func.value]
+    return [thing]
 
 
 class FilesTest(unittest.TestCase):
@@ -231,6 +241,38 @@ class ExpressionsTest(unittest.TestCase):
             if isinstance(call, ast.Call) and isinstance(call.func, ast.Attribute):
                 kept.append(call.func.attr)
         self.assertFalse({"zip", "enumerate", "reversed", "range", "items", "keys", "values", "set"} & set(kept))
+
+    def test_keywords(self):
+        allowed = {"sorted": ("key", "reverse"), "min": ("key", "default"), "max": ("key", "default"), "sum": ("start",),
+                   "enumerate": ("start",), "zip": ("strict",)}
+        for path, node in nodes(ast.Call):
+            for keyword in node.keywords:
+                self.assertIsInstance(node.func, ast.Name, (path, node.lineno))
+                self.assertIn(keyword.arg, allowed.get(node.func.id, ()), (path, node.lineno))
+
+    def test_no_loop_changes_what_it_walks(self):
+        for path, node in nodes(ast.For):
+            walked = [ast.unparse(part) for part in walked_by(node.iter)]
+            for part in [inner for statement in node.body for inner in ast.walk(statement)]:
+                if isinstance(part, ast.Call) and isinstance(part.func, ast.Attribute) and part.func.attr in CHANGES:
+                    self.assertNotIn(ast.unparse(part.func.value), walked, (path, node.lineno))
+                if isinstance(part, (ast.Subscript, ast.Name, ast.Attribute)) and isinstance(part.ctx, ast.Store):
+                    changed = part.value if isinstance(part, ast.Subscript) else part
+                    self.assertNotIn(ast.unparse(changed), walked, (path, node.lineno))
+
+    def test_what_stands_at_a_files_top_is_only_read(self):
+        for path, tree in TREES.items():
+            kept = [node.targets[0].id for node in tree.body
+                    if isinstance(node, ast.Assign) and isinstance(node.value, (ast.List, ast.Dict))]
+            for node in tree.body:
+                if isinstance(node, ast.Assign) and isinstance(node.value, (ast.List, ast.Dict)):
+                    inner = [part for part in ast.walk(node.value) if isinstance(part, (ast.List, ast.Dict))]
+                    self.assertEqual(inner, [node.value], path)
+            reads = [part.value for part in ast.walk(tree) if isinstance(part, ast.Subscript)]
+            reads += [part.value for part in ast.walk(tree) if isinstance(part, ast.Attribute) and part.attr == "get"]
+            for part in ast.walk(tree):
+                if isinstance(part, ast.Name) and part.id in kept and isinstance(part.ctx, ast.Load):
+                    self.assertIn(part, reads, (path, part.lineno))
 
 
 if __name__ == "__main__":
